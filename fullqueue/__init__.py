@@ -1,0 +1,1 @@
+"""Full queue: sequences of steps on queues of limited capacity."""
