@@ -2,7 +2,7 @@
 
 from fullqueue.errors import InvalidInteger
 from fullqueue.integers import is_int, is_natural
-from fullqueue.programs import TAKE, is_count, parts_of
+from fullqueue.programs import TAKE, check_count, parts_of
 
 
 class Profile:
@@ -88,8 +88,7 @@ class Profile:
 
     def __mul__(self, other):
         """Return the profile of as many repetitions as the other value says."""
-        if not is_count(other):
-            raise InvalidInteger("a count is an integer from 0 to 10 ** 30")
+        check_count(other)
         if other == 0:
             return Profile(0, 0, 0, 0, 0)
         last_start = self.offset * (other - 1)

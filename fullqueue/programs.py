@@ -30,6 +30,16 @@ def is_count(value):
     return is_int_between(value, 0, MOST_COUNT)
 
 
+def check_count(value):
+    if not is_count(value):
+        raise InvalidInteger("a count is an integer from 0 to 10 ** 30")
+
+
+def check_sequence(value):
+    if not is_sequence(value):
+        raise InvalidProgram("this is not a sequence")
+
+
 def count_steps(program):
     """Return the number of steps of the written out program."""
     return count_part_steps(parts_of(program))
@@ -55,8 +65,7 @@ def last_puts(program, count):
 def repeat(program, count):
     """Return the program (program)count."""
     parts = parts_of(program)
-    if not is_count(count):
-        raise InvalidInteger("a count is an integer from 0 to 10 ** 30")
+    check_count(count)
     depth = depth_of(parts) + 1
     if depth > MOST_DEPTH:
         raise LimitExceeded(depth)

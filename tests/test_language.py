@@ -17,9 +17,26 @@ INTERFACE = {
     "letters": "is_capacity is_letter is_mode is_queue is_user",
     "programs": "count_steps is_program is_sequence last_puts repeat write_out",
     "profiles": "Profile",
+    "lengths": "end_length least_capacity lossless_capacity lost_letters start_lengths",
+    "buffers": (
+        "Buffer NewestBuffer OldestBuffer Recorded RecordedNewest RecordedOldest RecordedStrict StrictBuffer make_buffer"
+    ),
+    "effects": "Effect",
+    "running": "effect_of",
 }
 
-METHODS = {"Profile": "__init__ puts takes low high fall offset of __add__ __mul__ __eq__"}
+METHODS = {
+    "Profile": "__init__ puts takes low high fall offset of __add__ __mul__ __eq__",
+    "Buffer": (
+        "__init__ capacity queue is_full put take run drain __call__ __len__ __bool__ __getitem__ __contains__ __eq__ "
+        "__repr__"
+    ),
+    "Recorded": "__init__ steps lost",
+    "Effect": (
+        "__init__ capacity rows identity failing lengths is_part_of power __call__ __getitem__ __contains__ __bool__ "
+        "__mul__ __pow__ __eq__ __repr__"
+    ),
+}
 
 ALLOWED_BUILTINS = set(
     "len range enumerate zip min max sum abs sorted reversed int str bool bytes list tuple dict set frozenset isinstance "
@@ -139,12 +156,60 @@ class WordsTest(unittest.TestCase):
                 self.assertNotIsInstance(node, (ast.Global, ast.Div, ast.AsyncFunctionDef), name)
                 self.assertFalse(isinstance(node, ast.Constant) and isinstance(node.value, float), name)
 
+    def test_names_of_imports_and_classes_have_one_meaning(self):
+        for name, tree in trees().items():
+            taken = {node.name for node in tree.body if isinstance(node, ast.ClassDef)}
+            taken |= {alias.name for node in tree.body if isinstance(node, ast.ImportFrom) for alias in node.names}
+            for node in ast.walk(tree):
+                if isinstance(node, ast.Name) and not isinstance(node.ctx, ast.Load):
+                    self.assertNotIn(node.id, taken, f"{name}:{node.lineno}")
+                if isinstance(node, ast.arg):
+                    self.assertNotIn(node.arg, taken, f"{name}:{node.lineno}")
+
+    def test_imports_are_used(self):
+        for name, tree in trees().items():
+            used = {node.id for node in ast.walk(tree) if isinstance(node, ast.Name)}
+            for node in tree.body:
+                if isinstance(node, ast.ImportFrom):
+                    for alias in node.names:
+                        self.assertIn(alias.name, used, name)
+
     def test_caught_errors(self):
         for name, tree in trees().items():
             for node in ast.walk(tree):
                 if isinstance(node, ast.ExceptHandler):
                     self.assertIsNotNone(node.type, name)
                     self.assertIsNone(re.search(r"\b(Exception|TypeError|OverflowError)\b", ast.unparse(node.type)))
+
+
+class ClassesTest(unittest.TestCase):
+    def setUp(self):
+        self.classes = [node for tree in trees().values() for node in tree.body if isinstance(node, ast.ClassDef)]
+
+    def test_classes_with_items_say_how_they_are_iterated_over(self):
+        for node in self.classes:
+            found = {part.name for part in node.body if isinstance(part, ast.FunctionDef)}
+            self.assertTrue("__getitem__" not in found or "__iter__" in found, node.name)
+
+    def test_no_name_is_a_method_and_an_attribute(self):
+        methods = {function.name for node in self.classes for function in functions(node)}
+        for node in self.classes:
+            for part in ast.walk(node):
+                if isinstance(part, ast.Attribute) and isinstance(part.ctx, ast.Store):
+                    self.assertNotIn(part.attr, methods, node.name)
+
+    def test_generators_have_names_of_their_own(self):
+        names = [function.name for tree in trees().values() for function in functions(tree)]
+        for tree in trees().values():
+            for function in functions(tree):
+                if any(isinstance(node, (ast.Yield, ast.YieldFrom)) for node in ast.walk(function)):
+                    self.assertEqual(names.count(function.name), 1, function.name)
+
+    def test_names_do_not_begin_with_two_underscores(self):
+        for tree in trees().values():
+            for node in ast.walk(tree):
+                if isinstance(node, ast.Attribute) and node.attr.startswith("__"):
+                    self.assertIn(node.attr, ("__init__", "__class__", "__name__"))
 
 
 class InterfaceTest(unittest.TestCase):

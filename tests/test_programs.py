@@ -4,20 +4,8 @@ import unittest
 from fullqueue.errors import InvalidInteger, InvalidProgram, LimitExceeded
 from fullqueue.profiles import Profile
 from fullqueue.programs import count_steps, is_program, is_sequence, last_puts, repeat, write_out
-from tests.samples import HUGE, NO_INTEGERS, OTHER_KINDS, accepts, expand, mutations, nest, random_programs
-
-PROGRAMS = (
-    "", "a", "z", "-", "a-", "()0", "()1", "(a)0", "(a)1", "(a)10", "(a)2b", "a(b-)2", "((a)2(-)3)4", "(a)2(b)3",
-    f"(a){HUGE}", f"(){HUGE}", f"(a){HUGE - 1}", nest(20), nest(20, "", 0), nest(20, "ab-", HUGE), "a" * 4000,
-    "(a)0" * 1000,
-)
-
-NO_PROGRAMS = (
-    " ", "A", "a ", " a", "a\n", "\n", "a b", "2", "a2", "2a", "(", ")", "()", "(a)", "a)", "a)2", "(a", "((a)2",
-    "(a)2)3", ")(", ")2(", ")a(2", "(a)00", "(a)01", "(a)02b", "(a)-1", "(a)+1", "(a) 1", "(a)1 ", "(a)1_0", "(a)a",
-    "(a)(b)2", "((a)2)", "(2)2", "()2()", "[a]2", "(a)2.", "(a)1.0", f"(a){HUGE + 1}", f"(a){HUGE}0", f"(a)0{HUGE}",
-    "(a)" + "9" * 31, "(a)" + "9" * 5000, "(a)" + "0" * 31, "(a)\u0662", "\xe4", "(\uff41)2", "(a)\xb2", nest(21),
-    nest(21, "", 0), nest(22), "b" + nest(21) + "c", "a" * 3999 + "A",
+from tests.samples import (
+    HUGE, NO_INTEGERS, NO_PROGRAMS, OTHER_KINDS, PROGRAMS, accepts, expand, mutations, nest, random_programs,
 )
 
 
