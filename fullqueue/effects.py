@@ -3,8 +3,8 @@
 from fullqueue.checks import check_capacity, check_length, check_queue
 from fullqueue.errors import CapacityMismatch, EffectFailed, InvalidEffect
 from fullqueue.integers import is_int_between
-from fullqueue.programs import check_count, ending
-from fullqueue.rows import end_of_row, identity_rows, is_row, power_rows, product_rows
+from fullqueue.programs import check_count
+from fullqueue.rows import end_of_row, identity_rows, is_row, power_rows, product_rows, result_of_row
 
 
 class Effect:
@@ -50,23 +50,17 @@ class Effect:
 
     def is_part_of(self, other):
         """Return whether the other effect has all rows of this one that are not None."""
-        if not isinstance(other, Effect):
-            raise InvalidEffect(None)
-        self._check_partner(other)
+        check_effect(other)
+        check_same_capacity(self, other)
         return all([row is None or row == wider for row, wider in zip(self._rows, other._rows)])
-
-    def _check_partner(self, other):
-        if self._capacity != other._capacity:
-            raise CapacityMismatch(self._capacity, other._capacity)
 
     def __call__(self, queue):
         """Return the result for a queue."""
         check_queue(queue, self._capacity)
-        row = self._rows[len(queue)]
-        if row is None:
+        result = result_of_row(self._rows[len(queue)], queue)
+        if result is None:
             raise EffectFailed(len(queue))
-        kept, word = row
-        return ending(queue, kept) + word
+        return result
 
     def __getitem__(self, at):
         """Return the row of a length."""
@@ -87,7 +81,7 @@ class Effect:
         """Return the effect of this one followed by the other one."""
         if not isinstance(other, Effect):
             return NotImplemented
-        self._check_partner(other)
+        check_same_capacity(self, other)
         return Effect(self._capacity, product_rows(self._rows, other._rows))
 
     def __pow__(self, other):
@@ -107,3 +101,13 @@ def check_rows(value, capacity):
     for length, row in enumerate(value):
         if not is_row(row, length, capacity):
             raise InvalidEffect(length)
+
+
+def check_effect(value):
+    if not isinstance(value, Effect):
+        raise InvalidEffect(None)
+
+
+def check_same_capacity(one, other):
+    if one.capacity != other.capacity:
+        raise CapacityMismatch(one.capacity, other.capacity)

@@ -46,6 +46,14 @@ def end_of_row(row):
     return kept + len(word)
 
 
+def result_of_row(row, queue):
+    """Return the result for a queue of the length that the row is for, or None."""
+    if row is None:
+        return None
+    kept, word = row
+    return ending(queue, kept) + word
+
+
 def power_rows(rows, exponent):
     """Return the rows of an effect that is repeated, by squaring."""
     power = identity_rows(len(rows) - 1)

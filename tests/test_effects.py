@@ -4,6 +4,7 @@ import unittest
 
 from fullqueue.effects import Effect
 from fullqueue.errors import CapacityMismatch, EffectFailed, InvalidCapacity, InvalidEffect, InvalidInteger, InvalidQueue
+from tests.effect_samples import NO_EFFECTS, all_effects, applied, both, random_effect
 from tests.samples import HUGE, NO_CAPACITIES, NO_INTEGERS, OTHER_KINDS, assert_errors_in_order, different_letters, queues
 
 NO_EXPONENTS = (-1, -HUGE, HUGE + 1, 10 ** 59, "a") + NO_INTEGERS
@@ -14,40 +15,6 @@ NO_ROWS = (
     (0, "A"), (0, "-"), (0, "a "), (0, ["a"]), (0, ("a",)), (0,), (), ("",), (0, "a", ""), [0, "a"], {0: "a"}, "0a",
     "", 0, 1, True, False, "a", [], object(), (HUGE, ""), (1, "a" * 100),
 )
-
-
-def all_rows(length, capacity, letters):
-    """Return all rows for a start length."""
-    words = list(queues(capacity, letters))
-    return [None] + [(kept, word) for kept in range(length + 1) for word in words if kept + len(word) <= capacity]
-
-
-def all_effects(capacity, letters="a"):
-    choices = [all_rows(length, capacity, letters) for length in range(capacity + 1)]
-    return [Effect(capacity, rows) for rows in itertools.product(*choices)]
-
-
-def random_effect(source, capacity, letters="ab", failing=0.1):
-    rows = []
-    for length in range(capacity + 1):
-        kept = source.randint(0, length)
-        word = "".join(source.choices(letters, k=source.randint(0, capacity - kept)))
-        rows.append(None if source.random() < failing else (kept, word))
-    return Effect(capacity, rows)
-
-
-def applied(effect, queue):
-    """The result for a queue by the definition, or None if the effect fails."""
-    row = effect.rows[len(queue)]
-    if row is None:
-        return None
-    kept, word = row
-    return queue[len(queue) - kept:] + word
-
-
-def both(one, other, queue):
-    middle = applied(one, queue)
-    return None if middle is None else applied(other, middle)
 
 
 class CreationTest(unittest.TestCase):
@@ -239,7 +206,7 @@ class PartsTest(unittest.TestCase):
             self.assertIs(identity.is_part_of(last), False)
 
     def test_errors(self):
-        for value in (Effect.identity(1).rows, Effect) + OTHER_KINDS:
+        for value in NO_EFFECTS:
             with self.assertRaises(InvalidEffect) as caught:
                 Effect.identity(1).is_part_of(value)
             self.assertIsNone(caught.exception.position)

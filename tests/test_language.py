@@ -23,6 +23,10 @@ INTERFACE = {
     ),
     "effects": "Effect",
     "running": "effect_of",
+    "comparing": "generated separating_queue settling",
+    "shortest": "shortest_sequence",
+    "visibility": "exchangeable unseen_puts",
+    "lines": "Line",
 }
 
 METHODS = {
@@ -36,6 +40,7 @@ METHODS = {
         "__init__ capacity rows identity failing lengths is_part_of power __call__ __getitem__ __contains__ __bool__ "
         "__mul__ __pow__ __eq__ __repr__"
     ),
+    "Line": "__init__ contents gone run __len__ __getitem__",
 }
 
 ALLOWED_BUILTINS = set(
