@@ -1,8 +1,8 @@
 """Checks of arguments: each raises the error for a value that is not of its kind."""
 
-from fullqueue.errors import InvalidCapacity, InvalidInteger, InvalidLetter, InvalidMode, InvalidQueue
+from fullqueue.errors import InvalidCapacity, InvalidInteger, InvalidLetter, InvalidMode, InvalidQueue, InvalidUser
 from fullqueue.integers import is_int_between, is_natural
-from fullqueue.letters import is_capacity, is_letter, is_mode, is_queue
+from fullqueue.letters import is_capacity, is_letter, is_mode, is_queue, is_user
 
 
 def check_letter(value):
@@ -23,6 +23,11 @@ def check_mode(value):
 def check_queue(value, capacity):
     if not is_queue(value, capacity):
         raise InvalidQueue("a queue is a string of at most as many letters as the capacity")
+
+
+def check_user(value):
+    if not is_user(value):
+        raise InvalidUser("a user is a string of 1 to 8 letters")
 
 
 def check_length(value, capacity):

@@ -5,13 +5,11 @@ at least one step, or a tuple (parts, count) for a repetition.
 """
 
 from fullqueue.errors import InvalidInteger, InvalidProgram, LimitExceeded
-from fullqueue.integers import is_int_between
+from fullqueue.integers import DIGITS, is_int_between, read_integer
 
 TAKE = "-"
 STEPS = "abcdefghijklmnopqrstuvwxyz-"
-DIGITS = "0123456789"
 MOST_COUNT = 10 ** 30
-LONGEST_COUNT = 31
 MOST_DEPTH = 20
 MOST_STEPS = 4000
 
@@ -33,6 +31,11 @@ def is_count(value):
 def check_count(value):
     if not is_count(value):
         raise InvalidInteger("a count is an integer from 0 to 10 ** 30")
+
+
+def check_program(value):
+    if not is_program(value):
+        raise InvalidProgram("this is not a program")
 
 
 def check_sequence(value):
@@ -92,8 +95,8 @@ def read_parts(text):
             end = at + 1
         elif text[at] == ")":
             end = end_of_run(text, at + 1, DIGITS)
-            count = read_count(text[at + 1:end])
-            if count is None or len(outer) == 0:
+            count = read_integer(text[at + 1:end])
+            if not is_count(count) or len(outer) == 0:
                 return None
             repetition = (parts, count)
             parts = outer.pop()
@@ -113,15 +116,6 @@ def end_of_run(text, start, signs):
     while end < len(text) and text[end] in signs:
         end += 1
     return end
-
-
-def read_count(digits):
-    """Return the count that is written in decimal digits, or None if there is none."""
-    if digits == "" or len(digits) > LONGEST_COUNT:
-        return None
-    count = int(digits)
-    # Leading zeros are not written again.
-    return count if is_count(count) and str(count) == digits else None
 
 
 def depth_of(parts):

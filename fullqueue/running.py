@@ -13,11 +13,15 @@ def effect_of(program, capacity, mode):
     parts = parts_of(program)
     check_capacity(capacity)
     check_mode(mode)
+    return Effect(capacity, program_rows(parts, Profile.of(program), capacity, mode))
+
+
+def program_rows(parts, profile, capacity, mode):
+    """Return the rows of a program, given its parts and its profile."""
     if mode == "newest":
-        return Effect(capacity, newest_rows(parts, capacity))
-    profile = Profile.of(program)
+        return newest_rows(parts, capacity)
     letters = last_letters(parts, capacity)
-    return Effect(capacity, [
+    return tuple([
         all_put_row(profile, letters, capacity, length) if succeeds(profile, capacity, mode, length) else None
         for length in range(capacity + 1)
     ])

@@ -27,6 +27,10 @@ INTERFACE = {
     "shortest": "shortest_sequence",
     "visibility": "exchangeable unseen_puts",
     "lines": "Line",
+    "identifying": "fitting_capacities identify telling_length test_queues",
+    "sessions": "Session",
+    "text_format": "format_effect parse_effect",
+    "console": "Console",
 }
 
 METHODS = {
@@ -41,6 +45,8 @@ METHODS = {
         "__mul__ __pow__ __eq__ __repr__"
     ),
     "Line": "__init__ contents gone run __len__ __getitem__",
+    "Session": "__init__ capacity mode queue log run undo changes clone __len__ __eq__",
+    "Console": "__init__ execute __len__",
 }
 
 ALLOWED_BUILTINS = set(
@@ -53,7 +59,7 @@ ALLOWED_BUILTINS = set(
 VALUE_METHODS = set(
     "append clear copy count endswith extend find get index insert isalnum isalpha isdigit islower isspace isupper items "
     "join keys ljust lower lstrip partition pop remove replace reverse rfind rjust rpartition rsplit rstrip setdefault "
-    "split splitlines startswith strip update upper values zfill bit_length add discard".split()
+    "split splitlines startswith strip update upper values zfill bit_length add discard removeprefix".split()
 )
 
 ALLOWED_DUNDERS = set(
