@@ -61,10 +61,13 @@ def fitting_capacities(program, mode, facts):
     check_facts(facts)
     profile = Profile.of(program)
     least = max([1] + [len(queue) for queue, _ in facts])
-    return [
-        capacity for capacity in range(least, MOST_CAPACITY + 1)
+    # With this capacity nothing is lost, so that all larger ones give the same results.
+    roomy = least + profile.high
+    found = [
+        capacity for capacity in range(least, min(roomy, MOST_CAPACITY) + 1)
         if fits(program_rows(parts, profile, capacity, mode), facts)
     ]
+    return found + list(range(roomy + 1, MOST_CAPACITY + 1)) if roomy in found else found
 
 
 def check_facts(value):
